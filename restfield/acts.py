@@ -1,0 +1,137 @@
+"""What each call does where it is not refused; each act gives back what is told behind the 0."""
+
+from restfield.refusals import refusal_due
+from restfield.state import NO_HOST, POST, Buff, Fit, Loan, Thing
+
+MOST = 1000000000
+
+
+def bounded(amount):
+    return max(0, min(amount, MOST))
+
+
+def begin(field, given):
+    field.begin_anew(given["life_0"], given["life_1"])
+    return []
+
+
+def add_thing(field, given):
+    field.last_number += 1
+    field.things[field.last_number] = Thing(
+        given["p"],
+        given["kind"],
+        given["name"],
+        given["qualities"],
+        given["toughness"],
+        given["wards"],
+        given["standing"],
+    )
+    return [field.last_number]
+
+
+def set_buff(field, given):
+    field.things[given["n"]].buff = Buff(
+        given["whose"],
+        given["need"],
+        given["ban"],
+        given["others"],
+        given["toughness"],
+        given["qualities"],
+    )
+    return []
+
+
+def set_loan(field, given):
+    field.things[given["n"]].loan = Loan(given["toughness"], given["qualities"])
+    return []
+
+
+def set_fit(field, given):
+    field.things[given["n"]].fit = Fit(given["whose"], given["need"], given["ban"], given["kinds"])
+    return []
+
+
+def attach(field, given):
+    field.things[given["n"]].host = given["h"]
+    return []
+
+
+def detach(field, given):
+    thing = field.things[given["n"]]
+    host = thing.host
+    thing.host = NO_HOST
+    return [host]
+
+
+def hurt(field, given):
+    thing = field.things[given["n"]]
+    if thing.kind == POST:
+        thing.standing = bounded(thing.standing - given["k"])
+        return [thing.standing]
+    thing.damage = bounded(thing.damage + given["k"])
+    if given["poison"] == 1 and given["k"] != 0:
+        thing.poisoned = 1
+    return [thing.damage]
+
+
+def change_counters(field, given):
+    thing = field.things[given["n"]]
+    thing.plus = bounded(thing.plus + given["plus_delta"])
+    thing.minus = bounded(thing.minus + given["minus_delta"])
+    return [thing.plus, thing.minus]
+
+
+def change_standing(field, given):
+    thing = field.things[given["n"]]
+    thing.standing = bounded(thing.standing + given["delta"])
+    return [thing.standing]
+
+
+def change_wards(field, given):
+    thing = field.things[given["n"]]
+    thing.wards = bounded(thing.wards + given["delta"])
+    return [thing.wards]
+
+
+def change_life(field, given):
+    side = field.sides[given["p"]]
+    side.life += given["delta"]
+    return [side.life]
+
+
+def change_marks(field, given):
+    side = field.sides[given["p"]]
+    side.marks = bounded(side.marks + given["delta"])
+    return [side.marks]
+
+
+def set_dry(field, given):
+    field.sides[given["p"]].dry = given["v"]
+    return []
+
+
+ACTS = {
+    0: begin,
+    1: add_thing,
+    2: set_buff,
+    3: set_loan,
+    4: set_fit,
+    5: attach,
+    6: detach,
+    7: hurt,
+    8: change_counters,
+    9: change_standing,
+    10: change_wards,
+    11: change_life,
+    12: change_marks,
+    13: set_dry,
+}
+
+
+def answer(field, call, given):
+    """The whole answer to one call, given being its numbers by their names."""
+    refusal = refusal_due(field, call, given)
+    if refusal != 0:
+        return [refusal]
+    act = ACTS[call]
+    return [0] + act(field, given)
