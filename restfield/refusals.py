@@ -14,8 +14,9 @@ MOST_THINGS = 64
 ADD = 1
 JOIN = 5
 HURT = 7
+WHY = 26
 
-CALLS_WITHOUT_RESULT = (1, 2, 3, 4, 5, 6, 7, 8, 9, 10, 11, 12, 13)
+CALLS_WITHOUT_RESULT = (1, 2, 3, 4, 5, 6, 7, 8, 9, 10, 11, 12, 13, 14, 15, 16, 18, 19)
 
 RANGES = {
     "life_0": (0, 1000000000),
@@ -52,8 +53,10 @@ def all_within_range(given):
     return all([within_range(name, number) for name, number in given.items()])
 
 
-def all_there(field, given):
-    return all([given[name] in field.things for name in ("n", "h") if name in given])
+def all_there(field, call, given):
+    """Whether the call's things are there; why asks for what is gone."""
+    known = field.gone if call == WHY else field.things
+    return all([given[name] in known for name in ("n", "h") if name in given])
 
 
 def is_of_wrong_kind(field, call, given):
@@ -68,7 +71,7 @@ def refusal_due(field, call, given):
     """The refusal of this call, or 0; asked from -1 downwards, for the nearest to 0 is answered."""
     if not all_within_range(given):
         return OUT_OF_RANGE
-    if not all_there(field, given):
+    if not all_there(field, call, given):
         return NOT_THERE
     if call in CALLS_WITHOUT_RESULT and field.result != NO_RESULT:
         return RESULT_STANDS

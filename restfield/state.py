@@ -60,6 +60,14 @@ class Thing:
         self.fit = Fit(0, 0, 0, 31)
 
 
+class Gone:
+    """What is still known of a thing that went."""
+
+    def __init__(self, side, reason):
+        self.side = side
+        self.reason = reason
+
+
 class Side:
     """One of the two sides."""
 
@@ -70,7 +78,11 @@ class Side:
 
 
 class Field:
-    """The two sides and the things that are there, by their numbers."""
+    """The two sides, the things that are there and those that are gone, by their numbers.
+
+    A dict keeps the order in which its keys came: the things there stand with the least number first,
+    those gone in the order in which they went.
+    """
 
     def __init__(self):
         self.begin_anew(0, 0)
@@ -78,6 +90,11 @@ class Field:
     def begin_anew(self, life_0, life_1):
         self.sides = [Side(life_0), Side(life_1)]
         self.things = {}
+        self.gone = {}
         # Kept apart from the things there, for no number is given again when a thing is gone.
         self.last_number = 0
         self.result = NO_RESULT
+
+    def let_go(self, n, reason):
+        thing = self.things.pop(n)
+        self.gone[n] = Gone(thing.side, reason)

@@ -1,10 +1,11 @@
-"""Each call with ordinary numbers, and its whole answer."""
+"""Each of the calls 0 to 13 with ordinary numbers, its whole answer, and what it changes."""
 
 import unittest
 
 from restfield.field import answers
-from tests.helper import (ADD, AURA, BEGIN, BEING, BUFF, COUNT, DRY, FIT, GEAR, HURT, JOIN, LEND, LIFE, MARKS, PART,
-                          POST, RELIC, SIX_THINGS, STAND, WARD, ask, field_after, last, picture, tell)
+from tests.helper import (ADD, AURA, BEGIN, BEING, BUFF, COUNT, DROP, DRY, FIT, GEAR, GROUP, HOSTS, HURT, JOIN, LEND,
+                          LIFE, LOOK, MARKS, PART, POST, RELIC, SHUNS, SIDES, SIX_THINGS, STAND, THINGS, USED_FIELD,
+                          USED_FIELD_WITH_RESULT, VOID, WARD, WHY, ask, last, seen, view)
 
 
 class Begin(unittest.TestCase):
@@ -15,7 +16,8 @@ class Begin(unittest.TestCase):
     def test_a_line_begins_as_after_begin_0_0(self):
         told = ask((LIFE, 0, 0), (LIFE, 1, 0), (MARKS, 0, 0), (MARKS, 1, 0), (ADD, 0, BEING, 0, 0, 1, 0, 0))
         self.assertEqual(told, [[0, 0], [0, 0], [0, 0], [0, 0], [0, 1]])
-        self.assertEqual(picture(field_after()), picture(field_after((BEGIN, 0, 0))))
+        self.assertEqual(view(3), view(3, (BEGIN, 0, 0)))
+        self.assertEqual(ask((SIDES,), (THINGS,), (VOID, 0), (VOID, 1)), [[0, 0, 0, 0, 0, 0, 0, 0], [0], [0], [0]])
 
     def test_makes_everything_new(self):
         told = ask(*SIX_THINGS, (MARKS, 0, 4), (MARKS, 1, 5), (LIFE, 1, 6), (BEGIN, 1, 2), (PART, 1), (LIFE, 0, 0),
@@ -23,15 +25,19 @@ class Begin(unittest.TestCase):
         self.assertEqual(told[9:], [[0], [-2], [0, 1], [0, 2], [0, 0], [0, 0], [0, 1], [-2]])
 
     def test_leaves_nothing_of_what_was(self):
-        used = field_after(*SIX_THINGS, (DRY, 0, 1), (DRY, 1, 1), (MARKS, 0, 3), (LIFE, 0, -9), (BEGIN, 5, 6))
-        self.assertEqual(picture(used), picture(field_after((BEGIN, 5, 6))))
+        new = view(8, (BEGIN, 5, 6))
+        self.assertEqual(new[:4], [[0, 5, 6, 0, 0, 0, 0, 0], [0], [0], [0]])
+        self.assertEqual(view(8, *USED_FIELD, (DRY, 0, 1), (DRY, 1, 1), (BEGIN, 5, 6)), new)
 
     def test_is_taken_and_ends_the_result_when_there_is_one(self):
-        for result in (1, 2, 3):
-            field = field_after(*SIX_THINGS)
-            field.result = result
-            self.assertEqual(tell(field, (BEGIN, 5, 6)), [0])
-            self.assertEqual(picture(field), picture(field_after((BEGIN, 5, 6))))
+        for result, calls in USED_FIELD_WITH_RESULT.items():
+            self.assertEqual(ask(*calls, (SIDES,), (BEGIN, 5, 6))[-2:], [last(*calls, (SIDES,)), [0]])
+            self.assertEqual(last(*calls, (SIDES,))[-1], result)
+            self.assertEqual(view(8, *calls, (BEGIN, 5, 6)), view(8, (BEGIN, 5, 6)))
+
+    def test_what_is_gone_is_forgotten_and_the_numbers_begin_anew(self):
+        told = ask(*SIX_THINGS, (DROP, 2), (BEGIN, 1, 1), (VOID, 1), (WHY, 2), *SIX_THINGS[:2], (WHY, 2), (THINGS,))
+        self.assertEqual(told[7:], [[0], [0], [-2], [0, 1], [0, 2], [-2], [0, 1, 2]])
 
 
 class Add(unittest.TestCase):
@@ -43,13 +49,28 @@ class Add(unittest.TestCase):
         self.assertEqual(told, [[0, 1], [0, 8], [0, 9]])
 
     def test_all_that_a_new_thing_has(self):
-        self.assertEqual(picture(field_after((ADD, 1, GEAR, 5, 6, -7, 8, 9)).things[1]), {
-            "side": 1, "kind": GEAR, "name": 5, "qualities": 6, "toughness": -7, "wards": 8, "standing": 9,
-            "damage": 0, "poisoned": 0, "plus": 0, "minus": 0, "host": 0,
-            "buff": {"whose": 0, "need": 0, "ban": 0, "others": 0, "toughness": 0, "qualities": 0},
-            "loan": {"toughness": 0, "qualities": 0},
-            "fit": {"whose": 0, "need": 0, "ban": 0, "kinds": 31},
-        })
+        new = (ADD, 1, GEAR, 5, 6, -7, 8, 9)
+        self.assertEqual(last(new, (LOOK, 1)), [0, 1, GEAR, 5, 6, 6, -7, -7, 0, 0, 0, 0, 8, 9, 0])
+
+    def test_a_new_things_buff_reaches_all_and_gives_nothing(self):
+        told = ask(*SIX_THINGS, *[(GROUP, n) for n in range(1, 7)], (LOOK, 2))
+        self.assertEqual(told[6:12], [[0, 1, 2, 3, 4, 5, 6]] * 6)
+        self.assertEqual(told[12], [0, 1, BEING, 7, 8, 8, 3, 3, 0, 0, 0, 0, 1, 0, 0])
+
+    def test_a_new_things_fit_is_for_all_and_its_loan_gives_nothing(self):
+        told = ask(*SIX_THINGS, (HOSTS, 4), (HOSTS, 1), (JOIN, 4, 1), (LOOK, 1))
+        self.assertEqual(told[6:8], [[0, 1, 2, 3, 5, 6], [0, 2, 3, 4, 5, 6]])
+        self.assertEqual(told[9], [0, 0, BEING, 0, 0, 0, 2, 2, 0, 0, 0, 0, 0, 0, 0])
+
+    def test_a_new_things_need_and_ban_leave_out_nothing(self):
+        for own in (0, 1, 2, 8, 32768, 65535 - SHUNS):
+            calls = ((ADD, 0, RELIC, 0, own, 0, 0, 0), (ADD, 1, RELIC, 0, own, 0, 0, 0))
+            self.assertEqual(ask(*calls, (GROUP, 1), (GROUP, 2), (HOSTS, 1), (HOSTS, 2))[2:],
+                             [[0, 1, 2], [0, 1, 2], [0, 2], [0, 1]])
+
+    def test_numbers_are_not_given_again(self):
+        told = ask(*SIX_THINGS[:3], (DROP, 3), SIX_THINGS[0], (DROP, 1), (DROP, 4), SIX_THINGS[0], (THINGS,))
+        self.assertEqual(told[3:], [[0], [0, 4], [0], [0], [0, 5], [0, 2, 5]])
 
     def test_64_things_may_be_there(self):
         told = ask(*[(ADD, k % 2, k % 5, 0, 0, 1, 0, 0) for k in range(64)])
@@ -57,37 +78,36 @@ class Add(unittest.TestCase):
 
 
 class BuffLendFit(unittest.TestCase):
-    """What these three set is told by no call among the first fourteen, so the field is looked at."""
+    def check_only_look_differs(self, n, parts, before, *calls):
+        """Of all that can be asked, these calls change what look tells of n, and only these parts of it."""
+        was, now = view(6, *before), view(6, *before, *calls)
+        place = 5 + 4 * (n - 1)
+        self.assertEqual([k for k in range(len(was)) if was[k] != now[k]], [place])
+        self.assertEqual([k for k in range(15) if was[place][k] != now[place][k]], parts)
 
     def test_buff(self):
-        self.assertEqual(last(*SIX_THINGS, (BUFF, 2, 1, 2, 3, 1, -4, 5)), [0])
-        field = field_after(*SIX_THINGS, (BUFF, 2, 2, 9, 9, 0, 9, 9), (BUFF, 2, 1, 2, 3, 1, -4, 5))
-        expected = {"whose": 1, "need": 2, "ban": 3, "others": 1, "toughness": -4, "qualities": 5}
-        self.assertEqual(picture(field.things[2].buff), expected)
-        self.check_only_that_differs(field, 2, "buff")
+        calls = ((BUFF, 2, 2, 0, 0, 0, 9, 16), (BUFF, 2, 1, 8, 7, 0, -4, 32))
+        self.assertEqual(ask(*SIX_THINGS, *calls)[6:], [[0], [0]])
+        self.assertEqual(last(*SIX_THINGS, *calls, (GROUP, 2)), [0, 2])
+        self.assertEqual(last(*SIX_THINGS, *calls, (LOOK, 2)), [0, 1, BEING, 7, 8, 40, 3, -1, 0, 0, 0, 0, 1, 0, 0])
+        self.assertEqual(last(*SIX_THINGS, *calls, (LOOK, 1)), last(*SIX_THINGS, (LOOK, 1)))
 
     def test_lend(self):
-        self.assertEqual(last(*SIX_THINGS, (LEND, 4, -2, 3)), [0])
-        field = field_after(*SIX_THINGS, (LEND, 4, 9, 9), (LEND, 4, -2, 3))
-        self.assertEqual(picture(field.things[4].loan), {"toughness": -2, "qualities": 3})
-        self.check_only_that_differs(field, 4, "loan")
+        joined = SIX_THINGS + ((JOIN, 4, 1),)
+        calls = ((LEND, 4, 9, 8), (LEND, 4, 3, 48))
+        self.assertEqual(ask(*joined, *calls)[7:], [[0], [0]])
+        self.assertEqual(last(*joined, *calls, (LOOK, 1)), [0, 0, BEING, 0, 0, 48, 2, 5, 0, 0, 0, 0, 0, 0, 0])
+        self.check_only_look_differs(1, [5, 7], joined, *calls)
 
     def test_fit(self):
-        self.assertEqual(last(*SIX_THINGS, (FIT, 5, 2, 3, 4, 17)), [0])
-        field = field_after(*SIX_THINGS, (FIT, 5, 1, 9, 9, 9), (FIT, 5, 2, 3, 4, 17))
-        self.assertEqual(picture(field.things[5].fit), {"whose": 2, "need": 3, "ban": 4, "kinds": 17})
-        self.check_only_that_differs(field, 5, "fit")
+        calls = ((FIT, 5, 1, 0, 0, 1), (FIT, 5, 2, 0, 1, 7))
+        told = ask(*SIX_THINGS, *calls, (HOSTS, 5), (HOSTS, 4))[6:]
+        self.assertEqual(told, [[0], [0], [0, 1, 3, 4], [0, 1, 2, 3, 5, 6]])
 
     def test_each_kind_takes_them(self):
         for n in range(1, 7):
             told = ask(*SIX_THINGS, (BUFF, n, 0, 0, 0, 0, 0, 0), (LEND, n, 0, 0), (FIT, n, 0, 0, 0, 0))
             self.assertEqual(told[6:], [[0], [0], [0]])
-
-    def check_only_that_differs(self, field, n, part):
-        setattr(field.things[n], part, None)
-        plain = field_after(*SIX_THINGS)
-        setattr(plain.things[n], part, None)
-        self.assertEqual(picture(field), picture(plain))
 
 
 class JoinPart(unittest.TestCase):
@@ -112,12 +132,10 @@ class JoinPart(unittest.TestCase):
             self.assertEqual(last(*SIX_THINGS, (PART, n)), [0, 0])
 
     def test_host_is_changed_and_nothing_else(self):
-        joined = field_after(*SIX_THINGS, (JOIN, 4, 2))
-        self.assertEqual(joined.things[4].host, 2)
-        joined.things[4].host = 0
-        self.assertEqual(picture(joined), picture(field_after(*SIX_THINGS)))
-        parted = field_after(*SIX_THINGS, (JOIN, 4, 2), (PART, 4))
-        self.assertEqual(picture(parted), picture(field_after(*SIX_THINGS)))
+        self.assertEqual(seen(4, *SIX_THINGS, (JOIN, 4, 2)), {**seen(4, *SIX_THINGS), "host": 2})
+        for n in (1, 2, 3, 5, 6):
+            self.assertEqual(seen(n, *SIX_THINGS, (JOIN, 4, 2)), seen(n, *SIX_THINGS))
+        self.assertEqual(view(6, *SIX_THINGS, (JOIN, 4, 2), (PART, 4)), view(6, *SIX_THINGS))
 
 
 class Hurt(unittest.TestCase):
@@ -134,16 +152,16 @@ class Hurt(unittest.TestCase):
         self.assertEqual(told[6:], [[0, 3], [0, 3], [0, 2], [0, 2]])
 
     def test_a_post_has_no_damage_and_is_not_poisoned(self):
-        post = field_after(*SIX_THINGS, (HURT, 6, 2, 1)).things[6]
-        self.assertEqual((post.damage, post.poisoned), (0, 0))
+        self.assertEqual(seen(6, *SIX_THINGS, (HURT, 6, 2, 1)), {**seen(6, *SIX_THINGS), "standing": 3})
 
     def test_poison(self):
         for hurts, poisoned in ((((1, 0),), 0), (((0, 1),), 0), (((1, 1),), 1), (((1, 1), (1, 0)), 1),
                                 (((1, 1), (0, 0)), 1), (((1, 0), (2, 1)), 1), (((1, 0), (0, 1)), 0)):
             with self.subTest(hurts=hurts):
-                field = field_after(*SIX_THINGS, *[(HURT, 1, k, poison) for k, poison in hurts])
-                self.assertEqual(field.things[1].poisoned, poisoned)
-                self.assertEqual(field.things[2].poisoned, 0)
+                calls = [(HURT, 1, k, poison) for k, poison in hurts]
+                expected = {"damage": sum(k for k, _ in hurts), "poisoned": poisoned}
+                self.assertEqual(seen(1, *SIX_THINGS, *calls), {**seen(1, *SIX_THINGS), **expected})
+                self.assertEqual(seen(2, *SIX_THINGS, *calls), seen(2, *SIX_THINGS))
 
 
 class Amounts(unittest.TestCase):
@@ -186,12 +204,12 @@ class LifeMarksDry(unittest.TestCase):
         self.assertEqual(ask((DRY, 0, 1), (DRY, 1, 0), (DRY, 0, 0)), [[0], [0], [0]])
         for turns, expected in (((), [0, 0]), (((0, 1),), [1, 0]), (((1, 1),), [0, 1]), (((0, 1), (0, 0)), [0, 0]),
                                 (((0, 1), (1, 1), (1, 1)), [1, 1])):
-            field = field_after(*[(DRY, p, v) for p, v in turns])
-            self.assertEqual([side.dry for side in field.sides], expected)
+            told = last(*[(DRY, p, v) for p, v in turns], (SIDES,))
+            self.assertEqual(told, [0, 0, 0, 0, 0, *expected, 0])
 
     def test_a_life_of_0_marks_and_being_dry_bring_no_result_by_themselves(self):
-        told = ask((BEGIN, 0, 0), (LIFE, 0, -1), (MARKS, 1, 10), (DRY, 0, 1), (DRY, 1, 1), (LIFE, 1, 0))
-        self.assertEqual(told, [[0], [0, -1], [0, 10], [0], [0], [0, 0]])
+        told = ask((BEGIN, 0, 0), (LIFE, 0, -1), (MARKS, 1, 10), (DRY, 0, 1), (DRY, 1, 1), (LIFE, 1, 0), (SIDES,))
+        self.assertEqual(told, [[0], [0, -1], [0, 10], [0], [0], [0, 0], [0, -1, 0, 0, 10, 1, 1, 0]])
 
 
 class OneList(unittest.TestCase):

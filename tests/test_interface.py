@@ -1,29 +1,16 @@
-"""What goes in and comes back: one list each, nothing changed, nothing kept; and nothing favours a side."""
+"""What goes in and comes back: one list each, nothing changed, nothing kept."""
 
 import random
 import unittest
 
 from restfield.field import answers
-from tests.helper import (ADD, BEGIN, DRY, GREATEST, LEAST, LIFE, MARKS, SIX_THINGS, TAKEN_CALLS, ask, field_after, flat,
-                          picture, split)
-
-NUMBERS = (LEAST, -1000000001, -1000000000, -2, -1, 0, 0, 1, 1, 2, 3, 4, 5, 6, 31, 32, 65535, 65536, 1000000000,
-           1000000001, GREATEST)
+from tests.drawn import drawn_calls
+from tests.helper import (ADD, BEGIN, DROP, DRY, LIFE, LOOK, MARKS, REST, ROUND, SIDES, SIX_THINGS, THINGS, VOID, WHY,
+                          ask, flat, split)
 
 
-def some_calls(seed, how_many=400):
-    """Calls with taken numbers, and here and there another number among them; the same for the same seed."""
-    source = random.Random(seed)
-    calls = list(SIX_THINGS)
-    while len(calls) < how_many:
-        # begin only now and then, and add often, or the field would hardly fill.
-        call = source.choice([BEGIN] + [ADD] * 60 + list(range(2, 14)) * 10)
-        numbers = list(TAKEN_CALLS[call][0])
-        for place in range(len(numbers)):
-            if source.random() < 0.4:
-                numbers[place] = source.choice(NUMBERS) if source.random() < 0.3 else source.randrange(8)
-        calls.append((call, *numbers))
-    return calls
+def some_calls(seed):
+    return drawn_calls(random.Random(seed), 400)
 
 
 class Interface(unittest.TestCase):
@@ -49,9 +36,13 @@ class Interface(unittest.TestCase):
             self.assertEqual(answers(calls), first)
 
     def test_nothing_is_kept_from_one_time_to_the_next(self):
-        answers(flat(((BEGIN, 7, 8), *SIX_THINGS, (MARKS, 0, 3), (DRY, 1, 1))))
-        told = ask((LIFE, 0, 0), (LIFE, 1, 0), (MARKS, 0, 0), (6, 1), (ADD, 0, 0, 0, 0, 0, 0, 0))
-        self.assertEqual(told, [[0, 0], [0, 0], [0, 0], [-2], [0, 1]])
+        asked = ((SIDES,), (THINGS,), (VOID, 0), (VOID, 1), (LOOK, 1), (WHY, 2), (ADD, 0, 0, 0, 0, 0, 0, 0))
+        new = [[0, 0, 0, 0, 0, 0, 0, 0], [0], [0], [0], [-2], [-2], [0, 1]]
+        self.assertEqual(ask(*asked), new)
+        answers(flat(((BEGIN, 7, 8), *SIX_THINGS, (DROP, 2), (MARKS, 0, 3), (DRY, 1, 1), (ROUND,))))
+        self.assertEqual(ask(*asked), new)
+        answers(flat(((BEGIN, 7, 8), *SIX_THINGS, (REST,))))
+        self.assertEqual(ask(*asked), new)
 
     def test_whole_numbers_and_a_list_come_back(self):
         for seed in range(10):
@@ -60,42 +51,35 @@ class Interface(unittest.TestCase):
             self.assertEqual({type(number) for number in told}, {int})
 
     def test_one_answer_for_each_call_a_refusal_alone(self):
-        lengths = (1, 2, 1, 1, 1, 1, 2, 2, 3, 2, 2, 2, 2, 1)
-        seen = set()
+        # How many numbers there are where it doesn't hang on the field.
+        lengths = {0: 1, 1: 2, 2: 1, 3: 1, 4: 1, 5: 1, 6: 2, 7: 2, 8: 3, 9: 2, 10: 2, 11: 2, 12: 2, 13: 1, 14: 1, 15: 1,
+                   16: 2, 20: 15, 23: 8, 26: 3}
+        firsts = set()
         for seed in range(20):
             calls = some_calls(seed)
             told = split(answers(flat(calls)))
             self.assertEqual(len(told), len(calls))
             for call, numbers in zip(calls, told):
-                self.assertEqual(len(numbers), lengths[call[0]] if numbers[0] == 0 else 1)
-                seen.add(numbers[0])
-        self.assertEqual(seen, {0, -1, -2, -4, -5, -6})
+                length = lengths.get(call[0], len(numbers))
+                self.assertEqual(len(numbers), length if numbers[0] == 0 else 1)
+                firsts.add(numbers[0])
+        self.assertEqual(firsts, {0, -1, -2, -3, -4, -6})
+
+    def test_no_call_raises_an_error(self):
+        calls = flat([(number, *[1] * how_many) for number, how_many in enumerate(
+            (2, 7, 7, 3, 5, 2, 1, 3, 3, 2, 2, 2, 2, 2, 1, 2, 0, 0, 0, 0, 1, 0, 1, 0, 1, 1, 1))])
+        self.assertEqual(len(split(answers(calls))), 27)
+
+    def test_all_calls_in_one_list_with_the_counts_as_they_stand(self):
+        calls = [0, 5, 5,  1, 0, 0, 0, 0, 2, 0, 0,  1, 1, 2, 0, 16, 0, 0, 0,  5, 2, 1,  14, 1,  17,  15, 2, 0,  18,
+                 21,  22, 0,  22, 1,  26, 1,  26, 2,  1, 1, 0, 3, 8, 1, 1, 0,  7, 3, 1, 1,  19,  20, 3,
+                 7, 3, 1, 0,  16,  24, 3,  25, 3,  13, 1, 1,  19,  23,  16,  26, 3]
+        self.assertEqual(answers(calls), [
+            1, 0,  2, 0, 1,  2, 0, 2,  1, 0,  1, 0,  4, 0, 1, 7, 2,  1, 0,  4, 0, 1, 7, 2,
+            1, 0,  3, 0, 1, 2,  1, 0,  3, 0, 0, 0,  3, 0, 0, 7,  2, 0, 3,  2, 0, 1,  6, 0, 0, 1, 1, 4, 3,
+            15, 0, 1, 0, 3, 8, 8, 1, 1, 0, 0, 0, 0, 0, 0, 0,  2, 0, 1,  2, 0, 1,
+            2, 0, 3,  1, 0,  1, 0,  6, 0, 2, 1, 1, 1, 1,  8, 0, 5, 5, 0, 0, 0, 1, 2,  1, -3,  1, -2])
 
     def test_one_call_alone_and_400(self):
         self.assertEqual(answers([LIFE, 0, 5]), [2, 0, 5])
         self.assertEqual(answers([LIFE, 0, 1] * 400), flat((2, 0, k) for k in range(1, 401)))
-
-
-def exchanged(call):
-    """The same call with the sides exchanged; whose is told from the thing's own side, so it stays."""
-    if call[0] == BEGIN:
-        return (BEGIN, call[2], call[1])
-    if call[0] in (ADD, LIFE, MARKS, DRY):
-        return (call[0], 1 - call[1], *call[2:])
-    return call
-
-
-class NothingFavoursASide(unittest.TestCase):
-    def test_the_answers_are_the_same_with_the_sides_exchanged(self):
-        for seed in range(20):
-            calls = some_calls(seed)
-            self.assertEqual(ask(*calls), ask(*[exchanged(call) for call in calls]))
-
-    def test_the_field_is_the_same_with_the_sides_exchanged(self):
-        for seed in range(20):
-            calls = some_calls(seed)
-            field = field_after(*calls)
-            field.sides = list(reversed(field.sides))
-            for thing in field.things.values():
-                thing.side = 1 - thing.side
-            self.assertEqual(picture(field), picture(field_after(*[exchanged(call) for call in calls])))

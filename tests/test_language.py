@@ -20,8 +20,8 @@ BUILT_IN = set("""len range enumerate zip min max sum abs sorted reversed int st
 METHODS = set("""append clear copy count endswith extend find get index insert isalnum isalpha isdigit islower isspace
     isupper items join keys ljust lower lstrip partition pop remove replace reverse rfind rjust rpartition rsplit
     rstrip setdefault split splitlines startswith strip update upper values zfill bit_length""".split())
-UNUSED_WORDS = re.compile(r"\b(type|typing|typing_extensions|enum|Enum|IntEnum|StrEnum|Flag|IntFlag|Generic|Protocol|ABC"
-                          r"|ABCMeta|namedtuple|NamedTuple|TypedDict|TYPE_CHECKING|abstractmethod)\b"
+UNUSED_WORDS = re.compile(r"\b(type|typing|typing_extensions|enum|Enum|IntEnum|StrEnum|Flag|IntFlag|Generic|Protocol"
+                          r"|ABC|ABCMeta|namedtuple|NamedTuple|TypedDict|TYPE_CHECKING|abstractmethod)\b"
                           r"|dataclass|overload|contextmanager")
 PLAIN_NAME = re.compile(r"[A-Za-z][A-Za-z0-9_]*\Z")
 
@@ -124,3 +124,50 @@ class Language(unittest.TestCase):
                 if isinstance(node, ast.Assign) and isinstance(node.value, (ast.List, ast.Dict)):
                     inner = [each for each in ast.walk(node.value) if isinstance(each, (ast.List, ast.Dict))]
                     self.assertEqual(inner, [node.value], (path.name, node.lineno))
+
+    def test_each_name_is_bound_once_and_hidden_nowhere(self):
+        for path in package_files():
+            tree = ast.parse(path.read_text(encoding="utf-8"))
+            imported = [alias.name for node in tree.body if isinstance(node, ast.ImportFrom) for alias in node.names]
+            classes = [node.name for node in tree.body if isinstance(node, ast.ClassDef)]
+            functions = [node.name for node in tree.body if isinstance(node, ast.FunctionDef)]
+            values = [node.targets[0].id for node in tree.body if isinstance(node, ast.Assign)]
+            top = imported + classes + functions + values
+            self.assertEqual(len(top), len(set(top)), path.name)
+            inner = [node for each in tree.body if isinstance(each, (ast.FunctionDef, ast.ClassDef))
+                     for node in ast.walk(each)]
+            bound = {node.arg for node in inner if isinstance(node, ast.arg)}
+            bound |= {node.id for node in inner if isinstance(node, ast.Name) and isinstance(node.ctx, ast.Store)}
+            self.assertEqual(bound & set(top), set(), path.name)
+
+    def test_no_name_is_a_method_and_a_value(self):
+        methods = {each.name for _, node in nodes_of(ast.ClassDef) for each in node.body
+                   if isinstance(each, ast.FunctionDef)}
+        values = {node.attr for _, node in nodes_of(ast.Attribute) if isinstance(node.ctx, ast.Store)}
+        self.assertEqual(methods & values, set())
+        for taken in (str, int, list, dict, set, bytes):
+            self.assertEqual(values & set(dir(taken)), set())
+
+    def test_no_two_files_draw_from_one_another(self):
+        drawn = {}
+        for path in package_files():
+            tree = ast.parse(path.read_text(encoding="utf-8"))
+            drawn[path.stem] = {node.module.split(".")[1] for node in tree.body if isinstance(node, ast.ImportFrom)}
+        while drawn:
+            free = [name for name, others in drawn.items() if not others & set(drawn)]
+            self.assertNotEqual(free, [], drawn)
+            drawn = {name: others for name, others in drawn.items() if name not in free}
+
+    def test_what_is_walked_on_the_spot(self):
+        for path in package_files():
+            tree = ast.parse(path.read_text(encoding="utf-8"))
+            walked = [node.iter for node in ast.walk(tree) if isinstance(node, (ast.For, ast.comprehension))]
+            for node in ast.walk(tree):
+                if isinstance(node, ast.Call) and isinstance(node.func, ast.Name):
+                    if node.func.id in ("list", "tuple", "dict", "sorted", "sum", "any", "all", "enumerate", "zip"):
+                        walked += node.args[:1]
+            for node in ast.walk(tree):
+                if isinstance(node, ast.Call):
+                    called = getattr(node.func, "id", None) or getattr(node.func, "attr", None)
+                    if called in ("zip", "enumerate", "reversed", "range", "items", "keys", "values"):
+                        self.assertIn(node, walked, (path.name, node.lineno))
